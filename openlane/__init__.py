@@ -1,0 +1,1 @@
+"""Openlane: final lanes that a log without ends allows."""
