@@ -162,8 +162,8 @@ def choose_arrivals(arrivals, length, needed):
     """The given arriving cars, and each other one, in order, that still fits.
 
     The block has this length, and no stayer arrives before the needed number
-    of departures. The result is None if a given car does. Whoever fits first
-    is taken: exchanging it for a later car never makes more room.
+    of departures. The result is None if a given car does. Each car that fits
+    is taken, since later cars can fill up every set that fits.
     """
     chosen = []
     added = 0
