@@ -97,13 +97,31 @@ def replay(start, log, sides):
     """The final lane of a history, and the departed cars in order."""
     require_log(start, log)
     require_sides(log, sides)
-    lane = list(start)
+    present = list(start)
     departed = []
     for event, side in zip(log, sides):
-        if event[0] == "in":
-            place = 0 if side == "L" else len(lane)
-            lane.insert(place, event[1])
-        else:
-            place = 0 if side == "L" else -1
-            departed.append(lane.pop(place))
-    return tuple(lane), departed
+        car = move(present, event, side)
+        if car is not None:
+            departed.append(car)
+    return tuple(present), departed
+
+
+def move(present, event, side):
+    """Change a list of cars as the event does at this side; the departed car, or None."""
+    if event[0] == "in":
+        present.insert(0 if side == "L" else len(present), event[1])
+        return None
+    return present.pop(0 if side == "L" else -1)
+
+
+def opposite(side):
+    """The other one of the two sides."""
+    return "R" if side == "L" else "L"
+
+
+def departure_counts(log):
+    """The number of departures until each moment."""
+    counts = [0]
+    for event in log:
+        counts.append(counts[-1] + (1 if event[0] == "out" else 0))
+    return counts

@@ -1,7 +1,7 @@
 """Which sets of cars can be the set of the cars of a possible final lane."""
 
 from openlane.errors import InvalidCars, UnknownCar
-from openlane.logs import is_lane, numbers, require_log, sizes
+from openlane.logs import is_car, is_lane, numbers, require_log, sizes
 
 
 def can_stay(start, log, cars):
@@ -51,6 +51,13 @@ def require_cars(start, log, cars):
     for car in cars:
         if car not in known:
             raise UnknownCar(f"{car} is not in the first lane and does not arrive")
+
+
+def require_known(start, log, car):
+    """Raise UnknownCar for any value that is not one of the numbered cars."""
+    # Only a car is compared, since the value may be anything.
+    if not is_car(car) or car not in numbers(start, log):
+        raise UnknownCar("not a car of the first lane, nor one that arrives")
 
 
 def extras(start, log, cars):

@@ -1,6 +1,9 @@
 """Slow and plain answers for small lanes and logs, independent of the package."""
 
-from itertools import combinations, product
+from functools import lru_cache
+from itertools import combinations, permutations, product
+from math import perm
+from random import Random
 
 START_NAMES = ("m", "c", "tt", "k", "ab", "z")
 ARRIVING_NAMES = ("y", "aa", "p", "b", "x", "d", "q", "w", "e", "u", "f", "v")
@@ -111,3 +114,114 @@ def smallest_superset(start, log, sets, cars):
     order = all_cars(start, log)
     found = [sorted(order.index(car) for car in each) for each in sets if set(cars) <= each]
     return tuple(order[number] for number in min(found)) if found else None
+
+
+def outcomes(start, log):
+    """The final lanes of all histories, each with the list of its (sides, departed)."""
+    found = {}
+    for sides in product("LR", repeat=len(log)):
+        lane, gone = run(start, log, sides)
+        found.setdefault(lane, []).append((list(sides), gone))
+    return found
+
+
+@lru_cache(maxsize=None)
+def small_outcomes(limits):
+    """Triples (start, log, outcomes) for all small cases within the limits."""
+    return [(start, log, outcomes(start, log)) for start, log in small_cases(limits)]
+
+
+def lanes_of_size(start, log):
+    """All lanes of known cars that have the right number of cars, or 800 if there are more."""
+    cars = all_cars(start, log)
+    size = size_at(start, log, len(log))
+    if perm(len(cars), size) <= 800:
+        return permutations(cars, size)
+    source = Random(len(log))
+    return [tuple(source.sample(cars, size)) for _ in range(800)]
+
+
+def arrivals_of(log, lane):
+    """The arriving cars of a lane with the moments after their arrival, in order."""
+    return [(event[1], moment) for moment, event in enumerate(log, 1)
+            if event[0] == "in" and event[1] in lane]
+
+
+def side_of(start, log, lane, car):
+    """The side of an arriving car, or None if it is the first stayer of all."""
+    block = [place for place, other in enumerate(lane) if other in start]
+    middle = block or [lane.index(arrivals_of(log, lane)[0][0])]
+    place = lane.index(car)
+    if place in middle:
+        return None
+    return "L" if place < middle[0] else "R"
+
+
+def lane_reason(start, log, lane):
+    """The first reason against a lane, read off the document, or None."""
+    cars = all_cars(start, log)
+    if len(lane) != size_at(start, log, len(log)) or set(lane) - set(cars):
+        return ("cars",)
+    block = tuple(car for car in lane if car in start)
+    if not has_slice(start, block) or not has_slice(lane, block):
+        return ("block",)
+    for index in range(1, len(lane) - 1):
+        if cars.index(lane[index]) > max(cars.index(lane[index - 1]), cars.index(lane[index + 1])):
+            return ("order", index)
+    for moment in range(len(log) + 1):
+        if extra_at(start, log, lane, moment) < 0:
+            return ("moment", moment)
+    return switch_reason(start, log, lane, block)
+
+
+def has_slice(lane, part):
+    return any(lane[low:low + len(part)] == part for low in range(len(lane) + 1))
+
+
+def extra_at(start, log, lane, moment):
+    return size_at(start, log, moment) - len(set(all_cars(start, log[:moment])) & set(lane))
+
+
+def switch_reason(start, log, lane, block):
+    arrivals = arrivals_of(log, lane)
+    for number, (car, moment) in enumerate(arrivals):
+        side = side_of(start, log, lane, car)
+        if number == 0:
+            if block:
+                left = start.index(block[0])
+                right = len(start) - 1 - start.index(block[-1])
+                if log[:moment].count(("out",)) < (left if side == "L" else right):
+                    return ("switch", None, car)
+            continue
+        before, since = arrivals[number - 1]
+        other = side_of(start, log, lane, before)
+        if other is not None and other != side:
+            if log[since:moment].count(("out",)) < extra_at(start, log, lane, since):
+                return ("switch", before, car)
+    return None
+
+
+def rule_history(start, log, lane):
+    """The history that the rule of the document gives for a possible lane."""
+    present = start
+    chosen = []
+    for index, event in enumerate(log):
+        later = [side_of(start, log, lane, car) for car, moment in arrivals_of(log, lane) if moment > index]
+        if later[:1] == [None]:
+            later = later[1:]
+        side = later[0] if later else "L"
+        other = "R" if side == "L" else "L"
+        if event[0] == "in" and event[1] not in lane:
+            side = other
+        elif event[0] == "out" and step(present, event, side)[1] in lane:
+            side = other
+        chosen.append(side)
+        present = step(present, event, side)[0]
+    return chosen
+
+
+def sort_key(start, log, lane):
+    """What the document compares lanes by: the numbers of the set, then the word."""
+    cars = all_cars(start, log)
+    sides = [side_of(start, log, lane, car) for car, _ in arrivals_of(log, lane)]
+    return sorted(cars.index(car) for car in lane), [side for side in sides if side is not None]
