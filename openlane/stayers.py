@@ -1,7 +1,7 @@
 """Which sets of cars can be the set of the cars of a possible final lane."""
 
 from openlane.errors import InvalidCars, UnknownCar
-from openlane.logs import is_car, is_lane, numbers, require_log, sizes
+from openlane.logs import departure_counts, is_car, is_lane, numbers, require_log, sizes
 
 
 def can_stay(start, log, cars):
@@ -40,6 +40,22 @@ def complete(start, log, cars):
         if chosen is not None and length + len(chosen) == final:
             return start[low:high] + tuple(chosen)
     return None
+
+
+def list_certain(start, log):
+    """The cars of every set that can stay."""
+    departed = departure_counts(log)
+    certain = []
+    for place, car in enumerate(start):
+        # A car of start leaves first if all others depart on its shorter side.
+        if departed[-1] <= min(place, len(start) - 1 - place):
+            certain.append(car)
+    for moment, event in enumerate(log):
+        # An arriving car can be the very next one that departs. Behind the last
+        # departure there are arrivals only.
+        if departed[moment] == departed[-1]:
+            certain.append(event[1])
+    return certain
 
 
 def require_cars(start, log, cars):

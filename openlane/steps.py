@@ -1,4 +1,4 @@
-"""The steps from one stayer to the next, which counting and positions share.
+"""The steps from one stayer to the next, which counting, positions and patterns share.
 
 An opening is a pair (low, high): start[low:high] is the block, and (0, 0) stands
 for no block. A node is a pair (at, stay): the arriving car of this index becomes

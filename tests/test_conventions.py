@@ -1,10 +1,10 @@
-"""[1], [2], [3] for the functions of sections 6 to 9: what holds for all of them."""
+"""[1], [2], [3] for the functions of sections 6 to 10: what holds for all of them."""
 
 import copy
 import inspect
 import unittest
 
-from openlane import counting, histories, lanes, positions
+from openlane import counting, histories, lanes, patterns, positions, sightings
 from openlane.counting import nth_lane, rank_lane
 from openlane.errors import InvalidLane, InvalidLog, LaneError
 from openlane.histories import departure_ranks, history
@@ -14,6 +14,8 @@ from openlane.positions import left_ends
 from tests.brute import FIVE_EVENTS
 
 LANE = ("d", "a", "b")
+SEEN = [(2, ("a", "b")), (5, LANE)]
+LATER_SEEN = [(1, ("a",)), (4, ("a", "c"))]
 
 # Each function with the names of its parameters behind start and log, and two sets of values.
 FUNCTIONS = (
@@ -29,6 +31,11 @@ FUNCTIONS = (
     (positions, "left_ends", (), (), ()),
     (positions, "left_range", ("car",), ("a",), ("d",)),
     (positions, "can_touch", ("first", "second"), ("a", "b"), ("d", "c")),
+    (patterns, "count_matching", ("pattern",), ((None, "a", None),), (("d", None, "b"),)),
+    (patterns, "first_matching", ("pattern",), ((None, "a", None),), (("a", "b", "c"),)),
+    (sightings, "first_conflict", ("sightings",), (SEEN,), ([(0, ()), (1, ())],)),
+    (sightings, "count_agreeing", ("sightings",), (SEEN,), (LATER_SEEN,)),
+    (sightings, "seen_history", ("sightings",), (SEEN,), (LATER_SEEN,)),
 )
 
 ANSWERS = {
@@ -44,6 +51,11 @@ ANSWERS = {
     "left_ends": (["a", "b", "c", "d"], ["a", "b", "c", "d"]),
     "left_range": ((0, 2), (0, 2)),
     "can_touch": (True, True),
+    "count_matching": (4, 2),
+    "first_matching": (("b", "a", "d"), None),
+    "first_conflict": (None, 1),
+    "count_agreeing": (4, 4),
+    "seen_history": (["R", "R", "R", "R", "L"], ["L", "L", "R", "L"]),
 }
 
 
